@@ -1,0 +1,1 @@
+"""Slanttiles: grids done in pieces, by hands, with little room."""

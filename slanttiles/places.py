@@ -40,6 +40,13 @@ class Grid:
             return False
         return all([is_within(number, 0, size - 1) for number, size in zip(thing, self.sizes)])
 
+    def place_number(self, place):
+        """Tell how many lesser places there are."""
+        number = 0
+        for along, size in zip(place, self.sizes):
+            number = number * size + along
+        return number
+
     def beside(self, place, steps):
         """Tell ("place", place) or ("rim", value) of what is beside a place by steps."""
         numbers = []

@@ -2,9 +2,8 @@
 
 import unittest
 
+from helper import UNDER
 from slanttiles import errors
-
-UNDER = ["NoGrid", "NoTerm", "NoJob", "NoPaper", "NoText", "TooGreat"]
 
 
 class ErrorClasses(unittest.TestCase):

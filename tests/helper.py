@@ -1,6 +1,9 @@
 """What several tests need."""
 
 from slanttiles import errors
+from slanttiles.jobs import Job
+from slanttiles.places import Grid
+from slanttiles.term_texts import read_term
 
 UNDER = ["NoGrid", "NoTerm", "NoJob", "NoPaper", "NoText", "TooGreat"]
 
@@ -46,3 +49,52 @@ def is_same(one, other):
     if isinstance(one, dict):
         return is_same(sorted(one.items()), sorted(other.items()))
     return one == other
+
+
+def made(sizes, rims, text, modulus, rounds, first):
+    """A job, its term written as a text."""
+    return Job(Grid(sizes, rims), read_term(text), modulus, rounds, first)
+
+
+def plain_job(sizes, rims, text, rounds):
+    """A job whose first worths are all 1."""
+    grid = Grid(sizes, rims)
+    term = read_term(text)
+    deep = max([back for back, steps in term.takes()], default=1)
+    return Job(grid, term, 97, rounds, [[1] * grid.places_many() for _ in range(deep)])
+
+
+class Dice:
+    """Numbers that look thrown and are the same in every run."""
+
+    def __init__(self, seed):
+        self.at = seed
+
+    def below(self, many):
+        self.at = (self.at * 6364136223846793005 + 1442695040888963407) % 2 ** 64
+        return (self.at >> 33) % many
+
+    def one_of(self, things):
+        return things[self.below(len(things))]
+
+    def mixed(self, things):
+        left, row = list(things), []
+        while left:
+            row.append(left.pop(self.below(len(left))))
+        return row
+
+
+RIMS = [("round",), ("mirror",), ("fixed", 5)]
+SIZES = [[1], [2], [3], [5], [9], [2, 2], [3, 2], [1, 4], [2, 1, 2], [2, 2, 2]]
+
+
+def thrown_job(dice, most_spots=24):
+    """A job with any rims, takes and rounds, of not too many spots."""
+    sizes = dice.one_of(SIZES)
+    rims = [dice.one_of(RIMS) for _ in sizes]
+    text = "1"
+    for _ in range(dice.below(5)):
+        steps = " ".join(str(dice.one_of([-2, -1, -1, 0, 0, 0, 1, 1, 3])) for _ in sizes)
+        text = f"({text} + [{1 + dice.below(3)} {steps}])"
+    places = Grid(sizes, rims).places_many()
+    return plain_job(sizes, rims, text, dice.below(min(12, most_spots // places) + 1))

@@ -201,6 +201,29 @@ class Language(unittest.TestCase):
             if isinstance(node.value, ast.Call) and isinstance(node.value.func, ast.Name):
                 self.assertNotIn(node.value.func.id, kept + ["set", "frozenset"], f"{path.name}:{node.lineno}")
 
+    def test_sets_are_not_kept(self):
+        fine = []
+        for path, node in nodes((ast.Call, ast.Compare)):
+            if isinstance(node, ast.Compare):
+                fine += [node.left] + node.comparators
+            elif isinstance(node.func, ast.Name) and node.func.id in ["sorted", "len"] and not node.keywords:
+                fine += node.args
+        places = {(node.lineno, node.col_offset, ast.dump(node)) for node in fine}
+        for path, node in nodes(ast.Call):
+            if isinstance(node.func, ast.Name) and node.func.id in ["set", "frozenset"]:
+                self.assertIn((node.lineno, node.col_offset, ast.dump(node)), places, f"{path.name}:{node.lineno}")
+
+    def test_what_a_loop_walks_is_not_changed_in_it(self):
+        changing = ["append", "clear", "extend", "insert", "pop", "remove", "reverse", "setdefault", "update"]
+        for path, node in nodes(ast.For):
+            walked = {inner.id for inner in ast.walk(node.iter) if isinstance(inner, ast.Name)}
+            for inner in [found for row in node.body for found in ast.walk(row)]:
+                if isinstance(inner, ast.Attribute) and inner.attr in changing and isinstance(inner.value, ast.Name):
+                    self.assertNotIn(inner.value.id, walked, f"{path.name}:{inner.lineno}")
+                if isinstance(inner, ast.Subscript) and isinstance(inner.ctx, ast.Store):
+                    if isinstance(inner.value, ast.Name):
+                        self.assertNotIn(inner.value.id, walked, f"{path.name}:{inner.lineno}")
+
 
 if __name__ == "__main__":
     unittest.main()

@@ -2,16 +2,9 @@
 
 import unittest
 
-from helper import is_same, odd_things, refused
+from helper import is_same, made, odd_things, refused
 from slanttiles.errors import NoJob
-from slanttiles.jobs import Job
-from slanttiles.places import Grid
 from slanttiles.plain_way import plain_round, plain_worths
-from slanttiles.term_texts import read_term
-
-
-def made(sizes, rims, text, modulus, rounds, first):
-    return Job(Grid(sizes, rims), read_term(text), modulus, rounds, first)
 
 
 class PlainWay(unittest.TestCase):

@@ -68,10 +68,10 @@ def ring_in(pairs, many):
     for wave in waves_ahead(pairs, many):
         for number in wave:
             free[number] = True
-    # Each number in no wave leans on another such one, so going on from it never ends.
+    # Just the numbers in no wave lean on such ones, so going on among them never ends.
     onward = {}
     for reader, made in pairs:
-        if reader not in free and made not in free:
+        if made not in free:
             onward[reader] = made
     if len(onward) == 0:
         return None

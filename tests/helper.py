@@ -2,6 +2,8 @@
 
 from slanttiles import errors
 from slanttiles.jobs import Job
+from slanttiles.papers import Paper
+from slanttiles.piece_pairs import piece_pairs
 from slanttiles.places import Grid
 from slanttiles.term_texts import read_term
 
@@ -98,3 +100,24 @@ def thrown_job(dice, most_spots=24):
         text = f"({text} + [{1 + dice.below(3)} {steps}])"
     places = Grid(sizes, rims).places_many()
     return plain_job(sizes, rims, text, dice.below(min(12, most_spots // places) + 1))
+
+
+def thrown_paper(dice, job, slots_many):
+    """A paper of a job, its pieces mostly, but not always, in an order that goes right."""
+    row = job.all_spots()
+    for _ in range(dice.below(3)):
+        at = dice.below(len(row)) if row else 0
+        row = row[:at] + row[at + 1:] + row[at:at + 1]
+    pieces = []
+    while row:
+        many = 1 + dice.below(3)
+        pieces.append(row[:many])
+        row = row[many:]
+    hands = [[] for _ in range(1 + dice.below(3))]
+    for number in range(len(pieces)):
+        dice.one_of(hands).append(number)
+    lacks = dice.one_of([0, 0, 10, 50])
+    waits = [pair for pair in piece_pairs(job, pieces) if dice.below(100) >= lacks]
+    slots = {spot: dice.below(slots_many) for spot in dice.mixed(job.all_spots())}
+    wanted = [spot for spot in dice.mixed(job.all_spots()) if dice.below(4) == 0]
+    return Paper(job, pieces, hands, dice.mixed(waits + waits[:1]), slots, wanted)

@@ -7,19 +7,24 @@ from slanttiles.spot_lists import counts_in
 
 def find_clash(paper):
     """Tell the clash of a paper, or None where it is let by."""
-    clash = find_miscount(paper)
-    if clash is not None:
-        return clash
     befores = Befores(paper)
-    ring = befores.ring()
-    if ring is not None:
-        return ("ring", ring)
-    clash = find_early(paper, befores)
+    clash = find_order_clash(paper, befores)
     if clash is None:
         clash = find_late(paper, befores)
     if clash is None:
         clash = find_gone(paper, befores)
     return clash
+
+
+def find_order_clash(paper, befores):
+    """Tell the clash of a paper that comes of something else than its slots, or None."""
+    clash = find_miscount(paper)
+    if clash is not None:
+        return clash
+    ring = befores.ring()
+    if ring is not None:
+        return ("ring", ring)
+    return find_early(paper, befores)
 
 
 def find_miscount(paper):

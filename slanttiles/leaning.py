@@ -19,6 +19,17 @@ def readers_of(job, spot):
     return [reader for reader in job.all_spots() if spot in leans_of(job, reader)]
 
 
+def readers_by_spot(job):
+    """Tell for each spot the spots that lean on it, a dict."""
+    readers = {}
+    for reader in job.all_spots():
+        readers[reader] = []
+        # Spots lean on spots of rounds ahead alone, and these have their lists by now.
+        for made in leans_of(job, reader):
+            readers[made].append(reader)
+    return readers
+
+
 def reach_of(job):
     """Tell for each line how far, in one round back, a take reaches at most."""
     takes = job.term.takes()

@@ -34,13 +34,23 @@ class Paper:
 
 def are_hands(thing, many):
     """Tell of anything whether it is a list of hands in which each number below many stands once."""
-    if not isinstance(thing, list) or not 1 <= len(thing) <= MOST_HANDS:
+    return are_shared_out(thing, many) and is_hand_count(len(thing))
+
+
+def is_hand_count(thing):
+    """Tell of anything whether a paper may have so many hands."""
+    return is_within(thing, 1, MOST_HANDS)
+
+
+def are_shared_out(thing, many):
+    """Tell of anything whether it is a list of lists in which each number below many stands once in all."""
+    if not isinstance(thing, list):
         return False
     numbers = []
-    for hand in thing:
-        if not isinstance(hand, list) or not are_below(hand, many):
+    for row in thing:
+        if not isinstance(row, list) or not are_below(row, many):
             return False
-        numbers.extend(hand)
+        numbers.extend(row)
     return sorted(numbers) == list(range(many))
 
 

@@ -1,5 +1,7 @@
 """What several tests need."""
 
+import copy
+
 from slanttiles import errors
 from slanttiles.jobs import Job
 from slanttiles.papers import Paper
@@ -121,3 +123,19 @@ def thrown_paper(dice, job, slots_many):
     slots = {spot: dice.below(slots_many) for spot in dice.mixed(job.all_spots())}
     wanted = [spot for spot in dice.mixed(job.all_spots()) if dice.below(4) == 0]
     return Paper(job, pieces, hands, dice.mixed(waits + waits[:1]), slots, wanted)
+
+
+def own_slots(job):
+    """A slot of its own for each spot."""
+    return {spot: slot for slot, spot in enumerate(job.all_spots())}
+
+
+def changed_paper(paper, **values):
+    """The same paper with other values."""
+    names = ["pieces", "hands", "waits", "slots", "wanted"]
+    return Paper(paper.job, *[values.get(name, getattr(paper, name)) for name in names])
+
+
+def paper_values(paper):
+    """Copies of the values of a paper, to see that nothing changes them."""
+    return copy.deepcopy([paper.pieces, paper.hands, paper.waits, paper.slots, paper.wanted])

@@ -2,7 +2,7 @@
 
 import unittest
 
-from helper import Dice, is_same, plain_job, thrown_job, thrown_paper
+from helper import Dice, is_same, own_slots, plain_job, thrown_job, thrown_paper
 from slanttiles.befores import Befores
 from slanttiles.clashes import find_clash
 from slanttiles.leaning import leans_of
@@ -16,11 +16,6 @@ A0, A1, B0, B1, C0, C1 = APART.all_spots()
 LINE = plain_job([3], [("fixed", 5)], "([1 -1] + [1 0])", 2)
 L1, L2, L3, M1, M2, M3 = LINE.all_spots()
 EMPTY = plain_job([2], [("round",)], "[1 0]", 0)
-
-
-def own_slots(job):
-    """A slot of its own for each spot."""
-    return {spot: slot for slot, spot in enumerate(job.all_spots())}
 
 
 def all_clashes(paper):

@@ -196,10 +196,29 @@ class Language(unittest.TestCase):
                 self.assertIsInstance(node.right, ast.Constant, f"{path.name}:{node.lineno}")
 
     def test_walked_at_once(self):
-        kept = ["zip", "enumerate", "reversed", "range"]
-        for path, node in nodes(ast.Assign):
-            if isinstance(node.value, ast.Call) and isinstance(node.value.func, ast.Name):
-                self.assertNotIn(node.value.func.id, kept + ["set", "frozenset"], f"{path.name}:{node.lineno}")
+        walking = ["list", "tuple", "dict", "sorted", "sum", "any", "all", "enumerate", "zip", "min", "max"]
+        fine = []
+        for path, node in nodes((ast.For, ast.comprehension, ast.Call)):
+            if not isinstance(node, ast.Call):
+                fine.append((path, node.iter))
+            elif isinstance(node.func, ast.Name) and node.func.id in walking:
+                fine += [(path, inner) for inner in (node.args if node.func.id == "zip" else node.args[:1])]
+            elif isinstance(node.func, ast.Attribute) and node.func.attr == "join":
+                fine += [(path, inner) for inner in node.args]
+        places = {(path, node.lineno, node.col_offset, ast.dump(node)) for path, node in fine}
+        for path, node in nodes(ast.Call):
+            kept = isinstance(node.func, ast.Name) and node.func.id in ["zip", "enumerate", "reversed", "range"]
+            if kept or isinstance(node.func, ast.Attribute) and node.func.attr in ["items", "keys", "values"]:
+                place = (path, node.lineno, node.col_offset, ast.dump(node))
+                self.assertIn(place, places, f"{path.name}:{node.lineno}")
+
+    def test_methods_are_not_handed_on(self):
+        methods = {n.name for _, c in nodes(ast.ClassDef) for n in c.body if isinstance(n, ast.FunctionDef)}
+        for path, tree in trees():
+            called = {id(node.func) for node in ast.walk(tree) if isinstance(node, ast.Call)}
+            for node in ast.walk(tree):
+                if isinstance(node, ast.Attribute) and node.attr in methods | OWN_METHODS:
+                    self.assertIn(id(node), called, f"{path.name}:{node.lineno}")
 
     def test_sets_are_not_kept(self):
         fine = []

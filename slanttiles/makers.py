@@ -1,7 +1,7 @@
 """A maker of papers without clash, of every job."""
 
 from slanttiles.errors import NoPaper
-from slanttiles.papers import Paper, are_wanted, is_hand_count
+from slanttiles.papers import Paper, is_hand_count
 from slanttiles.piece_pairs import piece_pairs
 from slanttiles.pieces import is_fit
 from slanttiles.room import room_for
@@ -13,14 +13,12 @@ def make_paper(job, height, widths, skews, hands, wanted):
     slanted = slanted_pieces(job, height, widths, skews)
     if not is_hand_count(hands):
         raise NoPaper("hands")
-    if not are_wanted(job, wanted):
-        raise NoPaper("wanted")
     pieces = slanted if go_in_order(job, slanted) else straight_pieces(job, 1, job.grid.sizes)
     rows = [list(range(hand, len(pieces), hands)) for hand in range(hands)]
     waits = greatest_waits(piece_pairs(job, pieces), hands)
-    # Room doesn't hang on the slots of the paper for which it is found.
-    no_room = dict([(spot, 0) for spot in job.all_spots()])
-    room = room_for(Paper(job, pieces, rows, waits, no_room, wanted))
+    # Room doesn't hang on the slots of the paper for which it is found; what is wanted is looked over by Paper.
+    one_slot = dict([(spot, 0) for spot in job.all_spots()])
+    room = room_for(Paper(job, pieces, rows, waits, one_slot, wanted))
     return Paper(job, pieces, rows, waits, room, wanted)
 
 

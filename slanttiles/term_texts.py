@@ -123,13 +123,19 @@ def pair_by(word, one, other):
     return Most(one, other)
 
 
-def read_term(text):
-    """Read the term that is written so, and look it over."""
+def read_written(text):
+    """Read the term that is written so, whatever its numbers and its size."""
     if not isinstance(text, str):
         raise NoText(None)
     reader = TermReader(text)
     term = reader.read_part(0)
     if reader.gone != len(text):
         raise NoText(reader.gone)
+    return term
+
+
+def read_term(text):
+    """Read the term that is written so, and look it over."""
+    term = read_written(text)
     check_term(term)
     return term

@@ -1,5 +1,6 @@
 """Stage 7: runs."""
 
+import copy
 import unittest
 
 from helper import (
@@ -31,12 +32,12 @@ def apart_paper(pieces, hands, waits, slots=None, wanted=()):
 
 
 def all_told(run):
-    """All that a run tells."""
+    """Copies of all that a run tells."""
     paper = run.paper
-    return [
+    return copy.deepcopy([
         run.ready(), [run.next_spot(hand) for hand in range(len(paper.hands))], run.is_over(), run.done_spots(),
         run.wrong_reads(), [run.held(slot) for slot in range(-2, 123)], [run.told(spot) for spot in paper.job.all_spots()],
-    ]
+    ])
 
 
 class Slow:
@@ -205,6 +206,8 @@ class Told(unittest.TestCase):
         self.same(run.held(4), (M2, 225))
         for slot in [-1, -6, 5, 6, 118, 120, 121, 10 ** 12, -10 ** 12, 10 ** 39]:
             self.assertIsNone(run.held(slot))
+        for truth in [True, False]:
+            self.assertIsNone(run.held(truth))
 
     def test_what_is_told_is_the_askers_own(self):
         run = Run(line_paper([[M2], [L1, L2, L3, M1, M3]], [[0], [1]], []))
@@ -370,10 +373,10 @@ class Going(unittest.TestCase):
             self.no_step(run, hand)
         self.same(run.is_over(), True)
 
-    def test_truths_are_no_hands(self):
+    def test_truths_and_numbers_below_0_are_no_hands(self):
         run = Run(apart_paper([[A0, B0, C0], [A1, B1, C1]], [[0], [1]], []))
         self.same(run.ready(), [0, 1])
-        for thing in [True, False]:
+        for thing in [True, False, -1, -2, 2]:
             self.no_step(run, thing)
 
     def test_go_by_numbers_of_any_size(self):
